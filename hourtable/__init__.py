@@ -1,0 +1,1 @@
+"""Hourtable: timetables that come again each beat."""

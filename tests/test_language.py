@@ -52,6 +52,16 @@ def names_bound_in(node):
     return []
 
 
+def names_at_top(tree):
+    """The names that a file's top gives a meaning, imports not among them."""
+    names = [name for node in tree.body for name in names_bound_in(node)]
+    return names + [target.id for node in tree.body if isinstance(node, ast.Assign) for target in node.targets]
+
+
+def modules_drawn_from(tree):
+    return {node.module.partition(".")[2] for node in tree.body if isinstance(node, ast.ImportFrom)}
+
+
 class LanguageTest(unittest.TestCase):
     def setUp(self):
         self.files = sorted(FOLDER.glob("*.py"))
@@ -116,6 +126,49 @@ class LanguageTest(unittest.TestCase):
             self.assertEqual(node.level, 0, place)
             self.assertRegex(node.module, r"^hourtable\.[a-z0-9_]+$", place)
             self.assertNotIn("*", [name.name for name in node.names], place)
+
+    def test_imports_are_of_what_a_file_defines(self):
+        defined = {path.stem: names_at_top(tree) for path, tree in self.trees}
+        for place, node in self.walk(ast.ImportFrom):
+            for name in node.names:
+                self.assertIn(name.name, defined[node.module.partition(".")[2]], place)
+
+    def test_no_two_files_draw_from_one_another(self):
+        draws = {path.stem: modules_drawn_from(tree) for path, tree in self.trees}
+        for _ in draws:
+            draws = {one: others.union(*[draws[other] for other in others]) for one, others in draws.items()}
+        for one, others in draws.items():
+            self.assertNotIn(one, others)
+
+    def test_no_local_is_called_like_an_import_or_a_class(self):
+        for path, tree in self.trees:
+            taken = [name.name for node in tree.body if isinstance(node, ast.ImportFrom) for name in node.names]
+            taken += [node.name for node in tree.body if isinstance(node, ast.ClassDef)]
+            for function in [node for node in ast.walk(tree) if isinstance(node, ast.FunctionDef)]:
+                for node in ast.walk(function):
+                    if node is not function:
+                        self.assertFalse(set(names_bound_in(node)) & set(taken), f"{path.name}:{function.lineno}")
+
+    def test_each_name_is_bound_once_at_the_top(self):
+        for path, tree in self.trees:
+            names = names_at_top(tree)
+            self.assertEqual(len(names), len(set(names)), path.name)
+
+    def test_no_function_calls_itself(self):
+        for place, node in self.walk(ast.FunctionDef):
+            called = [call.func.id for call in ast.walk(node)
+                      if isinstance(call, ast.Call) and isinstance(call.func, ast.Name)]
+            self.assertNotIn(node.name, called, place)
+
+    def test_sets_stand_where_they_are_asked(self):
+        for path, tree in self.trees:
+            outer = {id(part): node for node in ast.walk(tree) for part in ast.iter_child_nodes(node)}
+            for node in ast.walk(tree):
+                if isinstance(node, ast.Name) and node.id in ("set", "frozenset"):
+                    around = outer[id(outer[id(node)])]
+                    self.assertIsInstance(around, (ast.Call, ast.Compare), f"{path.name}:{node.lineno}")
+                    if isinstance(around, ast.Call):
+                        self.assertIn(around.func.id, ("len", "sorted"), f"{path.name}:{node.lineno}")
 
     def test_functions_and_classes(self):
         for place, node in self.walk(ast.arguments):

@@ -56,3 +56,28 @@ def cases_of(net):
     for span in forest_of(net):
         cases *= width_of(net, span) + 1
     return cases
+
+
+def rings_of(net):
+    """The list of the rings of all spans that the forest doesn't take, in the order of those spans."""
+    taken = forest_of(net)
+    return [ring_by(net, span) for span in range(len(net[2])) if span not in taken]
+
+
+def spread_of(net):
+    """The list of steps over the forest that reach each part of a net from its least happening, in that order."""
+    taken = forest_of(net)
+    reached = {}
+    steps = []
+    for first in range(net[1]):
+        ahead = [first] if first not in reached else []
+        reached[first] = True
+        while len(ahead) > 0:
+            here = ahead.pop()
+            for step in steps_from(net, taken, here):
+                there = leads_to(net, step)
+                if there not in reached:
+                    reached[there] = True
+                    ahead.append(there)
+                    steps.append(step)
+    return steps

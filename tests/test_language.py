@@ -178,6 +178,18 @@ class LanguageTest(unittest.TestCase):
         for place, node in self.walk(ast.ClassDef):
             self.assertEqual((len(node.bases) <= 1, node.keywords), (True, []), place)
 
+    def test_no_name_is_a_method_and_a_value_of_an_object(self):
+        methods = [node.name for _, kind in self.walk(ast.ClassDef) for node in kind.body
+                   if isinstance(node, ast.FunctionDef)]
+        values = [node.attr for _, node in self.walk(ast.Attribute) if isinstance(node.ctx, ast.Store)]
+        self.assertFalse(set(methods) & set(values))
+        self.assertFalse(set(values) & methods_of_python())
+
+    def test_what_is_walked_at_once_is_not_kept(self):
+        for place, node in self.walk((ast.Assign, ast.Return)):
+            if isinstance(node.value, ast.Call) and isinstance(node.value.func, ast.Name):
+                self.assertNotIn(node.value.func.id, ("zip", "enumerate", "reversed", "range"), place)
+
     def test_names(self):
         taken = set(dir(builtins))
         for place, node in self.walk(ast.AST):

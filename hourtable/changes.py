@@ -1,9 +1,8 @@
 """Tables changed for another net: which happenings stay, and how few can be moved."""
 
-from hourtable.errors import TooGreat
 from hourtable.finding import MOST_CASES, table_for, tables_that_fit
 from hourtable.forests import spread_of
-from hourtable.nets import MOST_SPANS
+from hourtable.nets import with_spans
 from hourtable.rings import leads_from, leads_to
 from hourtable.tables import rest_by
 
@@ -16,11 +15,7 @@ def pin_between(net, table, one, other):
 
 def pinned(net, table, some):
     """The net pinned to a table for some happenings, or TooGreat."""
-    pins = [pin_between(net, table, one, other) for one, other in zip(some, some[1:])]
-    many = len(net[2]) + len(pins)
-    if many > MOST_SPANS:
-        raise TooGreat(many, MOST_SPANS)
-    return (net[0], net[1], net[2] + tuple(pins))
+    return with_spans(net, [pin_between(net, table, one, other) for one, other in zip(some, some[1:])])
 
 
 def parts_of(net):

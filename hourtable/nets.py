@@ -1,5 +1,6 @@
 """Nets: happenings that come again each beat, and the spans between them."""
 
+from hourtable.errors import TooGreat
 from hourtable.wholes import greatest_whole, is_within
 
 MOST_HAPPENINGS = 16
@@ -47,3 +48,11 @@ def width_of(net, span):
     least = net[2][span][2]
     most = net[2][span][3]
     return most - least
+
+
+def with_spans(net, more):
+    """The net with more spans, a list, behind its own, or TooGreat."""
+    spans = net[2] + tuple(more)
+    if len(spans) > MOST_SPANS:
+        raise TooGreat(len(spans), MOST_SPANS)
+    return (net[0], net[1], spans)

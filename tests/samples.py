@@ -4,6 +4,7 @@ import itertools
 import math
 import random
 
+from hourtable.errors import HourError, TooGreat
 from hourtable.trees import is_tree, leaves_of
 
 GREATEST = 10 ** 60 - 1
@@ -147,7 +148,7 @@ def great_net(chance, beat, many, spans, parts=1, pulled=False, cases=4096):
         rows.append((*ends, least, least + width, chance.choice(WEIGHTS)))
     table = table_within(chance, beat, many, rows)
     widest = max(most - least for _, _, least, most, _ in rows)
-    pairs = [(one, other) for one in range(many) for other in range(many) if one != other and (one - other) % parts == 0]
+    pairs = [(one, other) for one in range(many) for other in range(one % parts, many, parts) if one != other]
     more = []
     for _ in range(spans - len(rows)):
         start, goal = chance.choice(pairs)
@@ -188,3 +189,18 @@ def is_told_tree(net, tree):
         return False
     leaves = leaves_of(net, tree)
     return len(leaves) <= 10000 and all(len(leaf[1]) <= 40 for _, leaf in leaves if leaf[0] == "price")
+
+
+def refused(case, kind, ask, *given):
+    """The refusal, of just this class, that is told when this is asked, held in a test case."""
+    with case.assertRaises(HourError, msg=kind.__name__) as told:
+        ask(*given)
+    case.assertIs(type(told.exception), kind)
+    return told.exception
+
+
+def too_great(case, many, most, ask, *given):
+    """Hold in a test case that this is refused as too great, with these two fields."""
+    refusal = refused(case, TooGreat, ask, *given)
+    case.assertEqual((refusal.many, refusal.most), (many, most))
+    case.assertTrue(is_plain((refusal.many, refusal.most)))

@@ -170,6 +170,20 @@ class LanguageTest(unittest.TestCase):
                     if isinstance(around, ast.Call):
                         self.assertIn(around.func.id, ("len", "sorted"), f"{path.name}:{node.lineno}")
 
+    def test_lists_and_dicts_of_the_top_are_only_read(self):
+        for path, tree in self.trees:
+            kept = [node.targets[0].id for node in tree.body
+                    if isinstance(node, ast.Assign) and isinstance(node.value, (ast.List, ast.Dict))]
+            for node in ast.walk(tree):
+                read = []
+                if isinstance(node, ast.Compare) and isinstance(node.ops[0], (ast.In, ast.NotIn)):
+                    read = node.comparators
+                elif isinstance(node, ast.Subscript) and isinstance(node.ctx, ast.Load):
+                    read = [node.value]
+                for part in ast.iter_child_nodes(node):
+                    if isinstance(part, ast.Name) and part.id in kept and isinstance(part.ctx, ast.Load):
+                        self.assertIn(part, read, f"{path.name}:{part.lineno}")
+
     def test_functions_and_classes(self):
         for place, node in self.walk(ast.arguments):
             self.assertEqual((node.vararg, node.kwarg, node.kwonlyargs, node.posonlyargs), (None, None, [], []), place)
